@@ -67,12 +67,7 @@ func FloorRat(a Rat) int {
 	if !a.valid() {
 		return 0
 	}
-	floor := a.Num / a.Den
-	// Go rounds quotients toward 0.
-	if a.Num%a.Den < 0 {
-		floor--
-	}
-	return floor
+	return floorDiv(a.Num, a.Den)
 }
 
 // valid tests the range before abs, which the least int does not have.
@@ -104,6 +99,16 @@ func divisor(a int, b int) int {
 		a, b = b, a%b
 	}
 	return a
+}
+
+// floorDiv returns a/b rounded down; b is positive.
+func floorDiv(a int, b int) int {
+	floor := a / b
+	// Go rounds quotients toward 0.
+	if a%b < 0 {
+		floor--
+	}
+	return floor
 }
 
 // abs returns a number without its sign.

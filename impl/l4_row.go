@@ -71,17 +71,7 @@ func RowOfTerms(list []Term, n int, sense int, bound int) (Row, bool) {
 
 // RowHolds reports whether a row holds for a point.
 func RowHolds(r Row, x []int) bool {
-	if !ValidRow(r, len(x)) || !validValues(x) {
-		return false
-	}
-	left := r.leftSide(x)
-	switch r.Sense {
-	case AtMost:
-		return left <= r.Bound
-	case AtLeast:
-		return left >= r.Bound
-	}
-	return left == r.Bound
+	return ValidRow(r, len(x)) && validValues(x) && r.holds(x)
 }
 
 // NegateRow returns a row with all its numbers negated.
@@ -147,11 +137,28 @@ func (r Row) valid() bool {
 	return ValidRow(r, len(r.Coefs))
 }
 
+// holds reports whether a valid row holds for values of its variables.
+func (r Row) holds(x []int) bool {
+	left := r.leftSide(x)
+	switch r.Sense {
+	case AtMost:
+		return left <= r.Bound
+	case AtLeast:
+		return left >= r.Bound
+	}
+	return left == r.Bound
+}
+
 // leftSide returns the sum of the products of coefficients and values.
 func (r Row) leftSide(x []int) int {
+	return sumOfProducts(r.Coefs, x)
+}
+
+// sumOfProducts returns the sum of the products of numbers at the same places.
+func sumOfProducts(a []int, b []int) int {
 	sum := 0
-	for i, c := range r.Coefs {
-		sum += c * x[i]
+	for i, v := range a {
+		sum += v * b[i]
 	}
 	return sum
 }

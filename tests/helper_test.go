@@ -1,9 +1,14 @@
 package tests
 
 import (
+	"fmt"
 	"math/rand"
+	"reflect"
+	"runtime"
 	"slices"
+	"strconv"
 	"strings"
+	"testing"
 
 	"loop.example/integerplanner/impl"
 )
@@ -80,4 +85,99 @@ func nearTexts(text string, alphabet string) []string {
 		}
 	}
 	return append(list, strings.ToUpper(text), text+text, text+"\x00", text+"\n", " "+text+" ")
+}
+
+// ints returns numbers as a slice.
+func ints(list ...int) []int {
+	return list
+}
+
+// dot returns the sum of the products of numbers at the same places.
+func dot(a []int, b []int) int {
+	sum := 0
+	for i := range a {
+		sum += a[i] * b[i]
+	}
+	return sum
+}
+
+// changed returns a copy of numbers with another one at a place.
+func changed(list []int, at int, value int) []int {
+	other := slices.Clone(list)
+	other[at] = value
+	return other
+}
+
+// extent is the memory of a slice with its spare capacity.
+type extent struct {
+	from, to uintptr
+}
+
+// extents returns the memory of all slices in a value.
+func extents(v reflect.Value) []extent {
+	var list []extent
+	switch v.Kind() {
+	case reflect.Interface:
+		list = extents(v.Elem())
+	case reflect.Struct:
+		for i := range v.NumField() {
+			list = append(list, extents(v.Field(i))...)
+		}
+	case reflect.Slice:
+		if size := uintptr(v.Cap()) * v.Type().Elem().Size(); size > 0 {
+			list = append(list, extent{v.Pointer(), v.Pointer() + size})
+		}
+		for i := range v.Len() {
+			list = append(list, extents(v.Index(i))...)
+		}
+	}
+	return list
+}
+
+// contents returns everything in a value, with the spare capacity of all slices.
+func contents(v reflect.Value) string {
+	switch v.Kind() {
+	case reflect.Interface:
+		return contents(v.Elem())
+	case reflect.Struct:
+		text := "{"
+		for i := range v.NumField() {
+			text += contents(v.Field(i)) + ";"
+		}
+		return text + "}"
+	case reflect.Slice:
+		text := "[" + strconv.Itoa(v.Len()) + ":"
+		for i := range v.Cap() {
+			text += contents(v.Slice(0, v.Cap()).Index(i)) + ","
+		}
+		return text + "]"
+	}
+	return fmt.Sprint(v)
+}
+
+// checkMemory calls a function twice. It fails if that changes the arguments,
+// if the results differ, or if a slice of a result shares memory with one of
+// the arguments, of the other results, or of the same result.
+func checkMemory(t *testing.T, name string, args []any, call func() []any) {
+	t.Helper()
+	before := contents(reflect.ValueOf(args))
+	first, second := call(), call()
+	if after := contents(reflect.ValueOf(args)); after != before {
+		t.Fatalf("%s changes its arguments from %s to %s", name, before, after)
+	}
+	if !reflect.DeepEqual(first, second) {
+		t.Fatalf("%s = %v, and then %v", name, first, second)
+	}
+	taken := extents(reflect.ValueOf(args))
+	for _, result := range slices.Concat(first, second) {
+		for _, e := range extents(reflect.ValueOf(result)) {
+			for _, other := range taken {
+				if e.from < other.to && other.from < e.to {
+					t.Fatalf("%s = %v, which shares memory", name, result)
+				}
+			}
+			taken = append(taken, e)
+		}
+	}
+	runtime.KeepAlive([][]any{args, first, second})
 }
