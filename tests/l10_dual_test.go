@@ -122,17 +122,6 @@ func wantProof(p impl.Problem, y []impl.Rat) (impl.Rat, bool) {
 	return wantSum(y, column(func(r impl.Row) int { return r.Bound }))
 }
 
-// leastCost returns the least cost of a feasible point of a valid problem; -1 if there is none.
-func leastCost(p impl.Problem) int {
-	least := -1
-	for _, x := range feasiblePoints(p) {
-		if cost := dot(p.Costs, x); least < 0 || cost < least {
-			least = cost
-		}
-	}
-	return least
-}
-
 // smallProblems returns problems that do not have very many points.
 func smallProblems() []impl.Problem {
 	return slices.DeleteFunc(relaxProblems(), func(p impl.Problem) bool {
@@ -447,9 +436,9 @@ func TestP60WithoutRationalSolutionThereIsNoIntegerOne(t *testing.T) {
 
 func TestP61TheRelaxationIsALowerBound(t *testing.T) {
 	bounded, less := 0, 0
-	for _, p := range smallProblems() {
+	for _, p := range append(relaxProblems(), demandProblems()...) {
 		value, ok := impl.RelaxValue(p)
-		least := leastCost(p)
+		_, least := impl.SolveExact(p)
 		if least < 0 || !ok {
 			continue
 		}
@@ -460,7 +449,7 @@ func TestP61TheRelaxationIsALowerBound(t *testing.T) {
 		bounded++
 		less -= sign
 	}
-	if bounded < 50 || less < 10 {
+	if bounded < 200 || less < 50 {
 		t.Errorf("%d problems have solutions, %d of them with a lower relaxation", bounded, less)
 	}
 }
@@ -546,7 +535,7 @@ func TestP64TheBoundOfTheMultipliersIsReached(t *testing.T) {
 func TestP65MultipliersProveLowerBounds(t *testing.T) {
 	for _, p := range smallProblems() {
 		value, ok := impl.RelaxValue(p)
-		least := leastCost(p)
+		_, least := impl.SolveExact(p)
 		for _, y := range multipliers(p) {
 			bound, proved := impl.CheckDuals(p, y)
 			if !proved {

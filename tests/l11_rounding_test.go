@@ -429,6 +429,43 @@ func TestP69SingleRowsAreCuts(t *testing.T) {
 	}
 }
 
+func TestP70CutsNeverLowerTheRelaxationAndKeepTheSolution(t *testing.T) {
+	raised, solved := 0, 0
+	for _, p := range append(smallProblems(), demandProblems()...) {
+		x, cost := impl.SolveExact(p)
+		value, ok := impl.RelaxValue(p)
+		list := cuttings(p)
+		n := len(impl.CoverRows(p))
+		for i := range n {
+			// Single rows, rounded, raise it most often.
+			list = append(list, cutting{changed(make([]int, n), i, 1), 2}, cutting{changed(make([]int, n), i, 1), 3}, cutting{changed(make([]int, n), i, 1), 5})
+		}
+		for _, c := range list {
+			cut, made := impl.RoundingCut(p, c.weights, c.divisor)
+			q, added := impl.AddCut(p, cut)
+			if !made || !added {
+				continue
+			}
+			if y, same := impl.SolveExact(q); !slices.Equal(x, y) || same != cost {
+				t.Errorf("SolveExact(%v) = %v, %d, but %v, %d with %v", p, x, cost, y, same, cut)
+			}
+			higher, higherOk := impl.RelaxValue(q)
+			if !ok || !higherOk {
+				continue
+			}
+			sign := impl.CompareRat(higher, value)
+			if sign < 0 {
+				t.Errorf("RelaxValue(%v) = %v, but %v with %v", p, value, higher, cut)
+			}
+			raised += sign
+			solved++
+		}
+	}
+	if raised < 50 || solved < 1000 {
+		t.Errorf("%d of %d cuts raise the relaxation", raised, solved)
+	}
+}
+
 func TestP71IntegerPointsViolateWhatDoesNotHold(t *testing.T) {
 	held := [2]int{}
 	for _, r := range validRows() {

@@ -287,7 +287,7 @@ func TestP39LeavingOutLeastKeepsMost(t *testing.T) {
 		for _, v := range c.values {
 			all += v
 		}
-		if least := leastCost(p); least != all-kept {
+		if _, least := impl.SolveExact(p); least != all-kept {
 			t.Errorf("%v: items of %d are left out, and of %d kept", c, least, kept)
 		}
 		checked++

@@ -164,6 +164,36 @@ func TestShippedAmounts(t *testing.T) {
 	}
 }
 
+func TestP36PlansOfShippingMeetAllDemands(t *testing.T) {
+	plans, shipped := 0, 0
+	for _, c := range shippings() {
+		p, _ := impl.TransportModel(c.supplies, c.demands, c.costs)
+		x, cost := impl.SolveExact(p)
+		if cost < 0 {
+			continue
+		}
+		plans++
+		for s, supply := range c.supplies {
+			if sent := total(x[s*len(c.demands) : (s+1)*len(c.demands)]); sent > supply {
+				t.Errorf("%v: supplier %d ships %d in %v", c, s, sent, x)
+			}
+		}
+		for k, demand := range c.demands {
+			got := 0
+			for s := range c.supplies {
+				got += x[s*len(c.demands)+k]
+			}
+			shipped += got
+			if got < demand {
+				t.Errorf("%v: customer %d gets %d in %v", c, k, got, x)
+			}
+		}
+	}
+	if plans < 50 || shipped < 200 {
+		t.Errorf("%d plans ship %d", plans, shipped)
+	}
+}
+
 func TestP37WhatIsMissingCannotBeShipped(t *testing.T) {
 	missing, enough := 0, 0
 	for _, c := range shippings() {

@@ -428,12 +428,33 @@ func TestP40AllPointsAreInTheFirstBox(t *testing.T) {
 			t.Errorf("StartBox(%v) = %v", p, b)
 			continue
 		}
-		for _, x := range somePoints(p) {
+		best, _ := impl.SolveExact(p)
+		for _, x := range append(somePoints(p), best) {
 			if !inBox(b, x) {
 				t.Errorf("%v is not in %v", x, b)
 			}
 		}
 	}
+}
+
+// cheapestIn returns the cheapest feasible point of a problem in a box and its cost, as SolveExact does; nil and -1 if there is
+// none. It reports whether the problem can be stated for the values above the lows.
+func cheapestIn(p impl.Problem, b impl.Box) ([]int, int, bool) {
+	q := clone(p)
+	for v := range q.Uppers {
+		q.Uppers[v] = b.High[v] - b.Low[v]
+	}
+	for i := range q.Rows {
+		q.Rows[i].Bound -= dot(q.Rows[i].Coefs, b.Low)
+	}
+	x, cost := impl.SolveExact(q)
+	if cost >= 0 {
+		cost += dot(p.Costs, b.Low)
+	}
+	for v := range x {
+		x[v] += b.Low[v]
+	}
+	return x, cost, impl.ValidProblem(q)
 }
 
 func TestP42TheRangeOfARowIsExact(t *testing.T) {
@@ -464,6 +485,36 @@ func TestP42TheRangeOfARowIsExact(t *testing.T) {
 				}
 			}
 		}
+	}
+}
+
+// TestP43And45NoCheapestPointIsLost shows it for the points of SolveExact.
+func TestP43And45NoCheapestPointIsLost(t *testing.T) {
+	kept, none := 0, 0
+	for _, p := range exactProblems() {
+		for _, b := range validBoxes(p) {
+			x, cost, stated := cheapestIn(p, b)
+			if !stated {
+				continue
+			}
+			tight, ok := impl.TightenAll(p, b)
+			if cost >= 0 && (!ok || !inBox(tight, x)) {
+				t.Errorf("TightenAll(%v, %v) = %v, %t, which loses %v", p, b, tight, ok, x)
+			}
+			for i := range p.Rows {
+				if tight, ok := impl.TightenRow(p, b, i); cost >= 0 && (!ok || !inBox(tight, x)) {
+					t.Errorf("TightenRow(%v, %v, %d) = %v, %t, which loses %v", p, b, i, tight, ok, x)
+				}
+			}
+			if cost >= 0 {
+				kept++
+			} else {
+				none++
+			}
+		}
+	}
+	if kept < 1000 || none < 1000 {
+		t.Errorf("%d boxes have a cheapest point, and %d have none", kept, none)
 	}
 }
 

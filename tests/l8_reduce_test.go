@@ -219,6 +219,62 @@ func TestP41ABoxIsMadeOfPoints(t *testing.T) {
 	}
 }
 
+func TestP48TheLowsAreCheapest(t *testing.T) {
+	equal, less := 0, 0
+	for _, p := range exactProblems() {
+		for _, b := range validBoxes(p) {
+			_, cost, stated := cheapestIn(p, b)
+			base := impl.BaseCost(p, b)
+			if !stated || cost < 0 {
+				continue
+			}
+			if base > cost {
+				t.Errorf("BaseCost(%v, %v) = %d, but a point costs %d", p, b, base, cost)
+			}
+			if base < cost {
+				less++
+			} else {
+				equal++
+			}
+		}
+	}
+	if equal < 500 || less < 500 {
+		t.Errorf("the cheapest point costs as much as the lows in %d boxes, and more in %d", equal, less)
+	}
+}
+
+func TestP49ReducedProblemsCostWhatIsLeft(t *testing.T) {
+	reduced, tightened := 0, 0
+	for _, p := range exactProblems() {
+		x, cost := impl.SolveExact(p)
+		b, ok := impl.TightenAll(p, impl.StartBox(p))
+		if !ok {
+			if cost >= 0 {
+				t.Errorf("TightenAll(%v) fails, but %v costs %d", p, x, cost)
+			}
+			continue
+		}
+		q, _, ok := impl.ReduceProblem(p, b)
+		if !ok {
+			continue
+		}
+		y, left := impl.SolveExact(q)
+		if (left < 0) != (cost < 0) || left >= 0 && left+impl.BaseCost(p, b) != cost {
+			t.Errorf("%v costs %d, but %v costs %d beside %v", p, cost, q, left, b)
+		}
+		if restored, ok := impl.RestorePoint(p, b, y); left >= 0 && (!ok || !slices.Equal(restored, x)) {
+			t.Errorf("the solution of %v is %v, but %v, %t of %v", p, x, restored, ok, q)
+		}
+		reduced++
+		if impl.BaseCost(p, b) > 0 || len(q.Costs) < len(p.Costs) {
+			tightened++
+		}
+	}
+	if reduced < 200 || tightened < 50 {
+		t.Errorf("only %d problems are reduced, %d of them to something else", reduced, tightened)
+	}
+}
+
 func TestP50ReducedProblemsAreValid(t *testing.T) {
 	for _, p := range validProblems() {
 		for _, b := range validBoxes(p) {
