@@ -33,13 +33,18 @@ func wantPoint(p impl.Problem) []impl.Rat {
 	if code != impl.StepBest {
 		return nil
 	}
-	values := make([]int, len(p.Costs))
+	return wantRats(valuesIn(d), d.Det)
+}
+
+// valuesIn returns the values of the variables of a problem in a dictionary of it, times Det.
+func valuesIn(d impl.Dict) []int {
+	values := make([]int, len(d.Free))
 	for v := range values {
 		if i := slices.Index(d.Basic, v); i >= 0 {
 			values[v] = d.Grid[i][len(d.Free)]
 		}
 	}
-	return wantRats(values, d.Det)
+	return values
 }
 
 // wantDuals returns what RelaxDuals returns for a valid problem.
@@ -48,13 +53,18 @@ func wantDuals(p impl.Problem) []impl.Rat {
 	if code != impl.StepBest {
 		return nil
 	}
-	values := make([]int, len(wantCover(p)))
+	return wantRats(multipliersIn(d), d.Det)
+}
+
+// multipliersIn returns the multipliers of the rows in a dictionary of a problem, times Det.
+func multipliersIn(d impl.Dict) []int {
+	values := make([]int, len(d.Basic))
 	for i := range values {
-		if j := slices.Index(d.Free, len(p.Costs)+i); j >= 0 {
+		if j := slices.Index(d.Free, len(d.Free)+i); j >= 0 {
 			values[i] = d.Grid[len(d.Basic)][j]
 		}
 	}
-	return wantRats(values, d.Det)
+	return values
 }
 
 // wantFarkas returns what FarkasOf returns for a valid problem.
@@ -63,18 +73,18 @@ func wantFarkas(p impl.Problem) []int {
 	if code != impl.StepNone {
 		return nil
 	}
-	row := -1
-	for i, v := range d.Basic {
-		if d.Grid[i][len(d.Free)] < 0 && (row < 0 || v < d.Basic[row]) {
-			row = i
-		}
-	}
-	w := make([]int, len(wantCover(p)))
+	return refutationIn(d)
+}
+
+// refutationIn returns the multipliers that a dictionary of a problem without solution shows.
+func refutationIn(d impl.Dict) []int {
+	row := slices.Index(d.Basic, slices.Min(failedVars(d)))
+	w := make([]int, len(d.Basic))
 	for i := range w {
-		if d.Basic[row] == len(p.Costs)+i {
+		if d.Basic[row] == len(d.Free)+i {
 			w[i] = d.Det
 		}
-		if j := slices.Index(d.Free, len(p.Costs)+i); j >= 0 {
+		if j := slices.Index(d.Free, len(d.Free)+i); j >= 0 {
 			w[i] = -d.Grid[row][j]
 		}
 	}

@@ -63,16 +63,21 @@ func wantCover(p impl.Problem) []impl.Row {
 
 // wantStart returns the first dictionary of a valid problem.
 func wantStart(p impl.Problem) impl.Dict {
-	n := len(p.Costs)
+	return wantDict(p.Costs, wantCover(p))
+}
+
+// wantDict returns the first dictionary of costs and rows.
+func wantDict(costs []int, rows []impl.Row) impl.Dict {
+	n := len(costs)
 	d := impl.Dict{Det: 1}
 	for v := range n {
 		d.Free = append(d.Free, v)
 	}
-	for i, r := range wantCover(p) {
+	for i, r := range rows {
 		d.Basic = append(d.Basic, n+i)
 		d.Grid = append(d.Grid, append(slices.Clone(r.Coefs), -r.Bound))
 	}
-	d.Grid = append(d.Grid, append(slices.Clone(p.Costs), 0))
+	d.Grid = append(d.Grid, append(slices.Clone(costs), 0))
 	return d
 }
 
@@ -139,7 +144,12 @@ func wantStep(d impl.Dict) (impl.Dict, int) {
 
 // wantPath returns all dictionaries from StartDict of a valid problem to that of SolveRelax, and the code of the last step.
 func wantPath(p impl.Problem) ([]impl.Dict, int) {
-	list := []impl.Dict{wantStart(p)}
+	return pathFrom(wantStart(p))
+}
+
+// pathFrom returns a valid dictionary and all that steps make of it, and the code of the last step.
+func pathFrom(d impl.Dict) ([]impl.Dict, int) {
+	list := []impl.Dict{d}
 	for {
 		d, code := wantStep(list[len(list)-1])
 		if code != impl.StepMoved {
